@@ -1,0 +1,1 @@
+"""Tracklay: netlists laid on a row of slots and tracks."""
