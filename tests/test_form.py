@@ -13,6 +13,15 @@ FILES = sorted(path for path in FOLDER.rglob("*") if path.is_file() and "__pycac
 INTERFACE = {
     "nets.py": {"look": "netlist", "nets": "netlist", "order": "netlist", "net_text": "netlist", "net_of": "text"},
     "meaning.py": {"begun": "netlist", "cycle": "netlist, held, row", "run": "netlist, rows, held=None"},
+    "trim.py": {"trimmed": "netlist"},
+    "alike.py": {"alike": "one, other", "closed": "one, other, table", "parts": "one, other, rows"},
+    "places.py": {
+        "loads": "netlist, placing",
+        "placed": "netlist, slots, tracks, pegs",
+        "least_tracks": "netlist, slots, pegs",
+        "keeps": "netlist, placing, slots, tracks, pegs",
+        "bars": "netlist, slots, tracks, pegs, family",
+    },
 }
 
 ALLOWED = set("""len range enumerate zip min max sum abs sorted reversed int str bool bytes list tuple dict set

@@ -3,41 +3,8 @@
 import unittest
 
 from tests import samples
+from tests.samples import COUNTER, count
 from tracklay.meaning import begun, cycle, run
-
-# Counts in two bits, the low one first; told are both and whether it goes on.
-COUNTER = (
-    ("in", "go", "", ()),
-    ("reg", "low", "0", ("lownext",)),
-    ("reg", "high", "0", ("highnext",)),
-    ("gate", "highnext", "0110", ("high", "carry")),
-    ("gate", "carry", "0001", ("low", "go")),
-    ("gate", "lownext", "0110", ("low", "go")),
-    ("out", "one", "", ("high",)),
-    ("out", "two", "", ("low",)),
-    ("out", "on", "", ("go",)),
-)
-
-
-def count(netlist, kind):
-    return len([thing for thing in netlist if thing[0] == kind])
-
-
-def cycle_by_definition(netlist, held, row):
-    things = {thing[1]: thing for thing in netlist}
-    inputs = [thing[1] for thing in netlist if thing[0] == "in"]
-    registers = [thing[1] for thing in netlist if thing[0] == "reg"]
-
-    def bit(name):
-        kind, name, bits, pins = things[name]
-        if kind == "in":
-            return row[inputs.index(name)]
-        if kind == "reg":
-            return held[registers.index(name)]
-        return bits[int("0" + "".join(bit(pin) for pin in pins), 2)]
-
-    told = "".join(bit(pins[0]) for kind, name, bits, pins in netlist if kind == "out")
-    return told, "".join(bit(pins[0]) for kind, name, bits, pins in netlist if kind == "reg")
 
 
 class Begun(unittest.TestCase):
@@ -134,7 +101,7 @@ class Cycle(unittest.TestCase):
             netlist = samples.some_netlist(seed)
             for held in samples.words_of_bits(count(netlist, "reg")):
                 for row in samples.words_of_bits(count(netlist, "in")):
-                    self.assertEqual(cycle(netlist, held, row), cycle_by_definition(netlist, held, row))
+                    self.assertEqual(cycle(netlist, held, row), samples.cycle_by_definition(netlist, held, row))
 
     def test_more_than_a_good_netlist_has(self):
         names = ["a" + letter for letter in "abcdefghijklmnopqrst"]

@@ -36,6 +36,14 @@ def number_of(bits):
     return number
 
 
+def bit_rows(many):
+    """All texts of so many bits, by the numbers that they write."""
+    rows = [""]
+    for place in range(many):
+        rows = [row + bit for row in rows for bit in "01"]
+    return rows
+
+
 def read_bits(netlist, kind, bit_of):
     """The bits that the things of a kind, each of one pin, read."""
     return "".join([bit_of[thing[3][0]] for thing in netlist if thing[0] == kind])
