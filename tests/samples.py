@@ -186,3 +186,21 @@ def told_anew(netlist, seed):
     chance.shuffle(inner)
     return tuple([thing for thing in things if thing[0] == "in"] + inner
                  + [thing for thing in things if thing[0] == "out"])
+
+
+def some_placing(chance, netlist, slots):
+    """The things in some of so many slots."""
+    return tuple(chance.sample([*range(len(netlist))] + [-1] * (slots - len(netlist)), slots))
+
+
+def some_layings(many, seed=0):
+    """Triples (netlist, placing, chance), small and full ones, with and without empty slots."""
+    chance = random.Random(seed)
+    shapes = ((4, 4, 4, 0), (4, 4, 0, 4), (2, 6, 2, 2), (4, 0, 4, 4), (0, 8, 0, 4), (1, 4, 4, 3), (3, 5, 1, 2))
+    for at in range(many):
+        if at % 3:
+            netlist = some_netlist(1000 * seed + at)
+        else:
+            netlist = big_netlist(1000 * seed + at, *chance.choice(shapes))
+        slots = max(1, len(netlist)) + chance.choice((0, 0, 1, 2))
+        yield netlist, some_placing(chance, netlist, slots), chance

@@ -22,7 +22,35 @@ INTERFACE = {
         "keeps": "netlist, placing, slots, tracks, pegs",
         "bars": "netlist, slots, tracks, pegs, family",
     },
+    "tracks.py": {
+        "spans": "netlist, placing",
+        "routed": "netlist, placing, tracks",
+        "delay": "netlist, placing",
+        "arrival": "netlist, placing, name",
+    },
+    "image.py": {
+        "image_of": "netlist, placing, routing, tracks",
+        "sheet_of": "netlist, placing",
+        "wires": "image, tracks",
+        "read": "image, tracks, sheet",
+        "in_order": "netlist, names",
+        "patch": "old, new",
+        "patched": "image, some",
+    },
 }
+
+# File: class: methods with their arguments behind self.
+CLASSES = {
+    "fabric.py": {"Fabric": {
+        "__init__": "image, tracks", "cycle": "row", "held": "", "hold": "bits", "lay": "some", "image": "", "twin": "",
+        "__len__": "", "__str__": "", "__repr__": "", "__eq__": "other",
+    }},
+}
+
+ALLOWED_SPECIAL = ("__init__", "__len__", "__str__", "__repr__", "__eq__")
+
+# The methods of builtin values that the package may call, as far as it needs some.
+BUILTIN_METHODS = set("""append bit_length count get index join ljust pop split extend""".split())
 
 ALLOWED = set("""len range enumerate zip min max sum abs sorted reversed int str bool bytes list tuple dict set
 frozenset isinstance ord repr any all divmod iter next super property staticmethod classmethod Exception ValueError
@@ -108,7 +136,7 @@ class Form(unittest.TestCase):
             for node, name in names_in(tree):
                 with self.subTest(path.name, line=node.lineno, name=name):
                     self.assertNotIn(name, BARRED_NAMES)
-                    self.assertTrue(name == "__init__" or not name.startswith("_"))
+                    self.assertTrue(name in ALLOWED_SPECIAL or not name.startswith("_"))
                     if isinstance(node, ast.Name) and hasattr(builtins, name):
                         self.assertIn(name, ALLOWED)
                         self.assertIsInstance(node.ctx, ast.Load)
@@ -125,6 +153,123 @@ class Form(unittest.TestCase):
                         self.assertIsInstance(node.comparators[0], ast.Constant)
 
 
+def bound_in(function):
+    """All names that a function binds: its parameters, targets, nested functions and caught errors."""
+    for node in ast.walk(function):
+        if isinstance(node, ast.arg):
+            yield node.arg
+        elif isinstance(node, ast.Name) and not isinstance(node.ctx, ast.Load):
+            yield node.id
+        elif isinstance(node, ast.FunctionDef) and node is not function:
+            yield node.name
+        elif isinstance(node, ast.ExceptHandler) and node.name:
+            yield node.name
+
+
+def classes_in(tree):
+    return [node for node in tree.body if isinstance(node, ast.ClassDef)]
+
+
+def methods_in(cls):
+    return [node for node in cls.body if isinstance(node, ast.FunctionDef)]
+
+
+def imports_of(tree):
+    return [node.module.split(".")[1] for node in tree.body if isinstance(node, ast.ImportFrom)]
+
+
+class Deeper(unittest.TestCase):
+    def test_no_file_is_come_to_from_itself_along_imports(self):
+        reads = {path.stem: set(imports_of(tree)) for path, tree in trees()}
+        for start in reads:
+            seen, fresh = set(), {start}
+            while fresh:
+                fresh = {other for name in fresh for other in reads[name]} - seen
+                seen |= fresh
+            self.assertNotIn(start, seen)
+
+    def test_each_name_is_bound_once_at_module_level(self):
+        for path, tree in trees():
+            names = []
+            for node in tree.body:
+                if isinstance(node, ast.ImportFrom):
+                    names += [part.asname or part.name for part in node.names]
+                elif isinstance(node, (ast.FunctionDef, ast.ClassDef)):
+                    names.append(node.name)
+                elif isinstance(node, ast.Assign):
+                    names += [target.id for target in node.targets]
+            self.assertEqual(sorted(names), sorted(set(names)), path.name)
+            self.assertFalse([name for name in names if hasattr(builtins, name)], path.name)
+
+    def test_no_local_name_is_that_of_a_class_an_import_or_a_builtin(self):
+        for path, tree in trees():
+            barred = {part.asname or part.name for node in tree.body if isinstance(node, ast.ImportFrom)
+                      for part in node.names} | {cls.name for cls in classes_in(tree)}
+            for node in ast.walk(tree):
+                if isinstance(node, ast.FunctionDef):
+                    bound = set(bound_in(node))
+                    self.assertFalse(bound & barred, (path.name, node.name))
+                    self.assertFalse([name for name in bound if hasattr(builtins, name)], (path.name, node.name))
+
+    def test_all_that_is_imported_is_used(self):
+        for path, tree in trees():
+            used = {node.id for node in ast.walk(tree) if isinstance(node, ast.Name)}
+            for node in tree.body:
+                if isinstance(node, ast.ImportFrom):
+                    self.assertLessEqual({part.asname or part.name for part in node.names}, used, path.name)
+
+    def test_no_name_is_a_method_and_an_attribute(self):
+        methods = {method.name for path, tree in trees() for cls in classes_in(tree) for method in methods_in(cls)}
+        attributes, read = set(), set()
+        for path, tree in trees():
+            called = {node.func for node in ast.walk(tree) if isinstance(node, ast.Call)}
+            for node in ast.walk(tree):
+                if isinstance(node, ast.Attribute):
+                    if isinstance(node.ctx, ast.Store):
+                        attributes.add(node.attr)
+                    elif node in called:
+                        self.assertIn(node.attr, methods | BUILTIN_METHODS, (path.name, node.lineno))
+                    else:
+                        read.add(node.attr)
+        self.assertFalse(methods & attributes)
+        self.assertLessEqual(read, attributes)
+
+    def test_no_generators_and_no_sorting_in_place(self):
+        for path, tree in trees():
+            for node in ast.walk(tree):
+                self.assertNotIsInstance(node, (ast.GeneratorExp, ast.Yield, ast.YieldFrom, ast.Lambda), path.name)
+
+    def test_double_underscore_methods(self):
+        for path, tree in trees():
+            for cls in classes_in(tree):
+                for method in methods_in(cls):
+                    told = [node.value for node in ast.walk(method) if isinstance(node, ast.Return)]
+                    stored = [node for node in ast.walk(method)
+                              if isinstance(node, (ast.Name, ast.Attribute)) and isinstance(node.ctx, ast.Store)]
+                    if method.name == "__init__":
+                        self.assertEqual(told, [])
+                    elif method.name.startswith("__"):
+                        self.assertEqual(stored, [])
+                        self.assertIsInstance(method.body[-1], ast.Return)
+                    if method.name == "__len__":
+                        self.assertEqual({node.func.id for node in told}, {"len"})
+                    if method.name in ("__str__", "__repr__"):
+                        for node in told:
+                            is_join = isinstance(node, ast.Call) and isinstance(node.func.value, ast.Constant)
+                            self.assertTrue(isinstance(node, ast.JoinedStr) or is_join)
+
+    def test_only_own_errors_are_caught(self):
+        source = ast.parse((FOLDER / "errors.py").read_text())
+        own = {cls.name for cls in classes_in(source)}
+        for path, tree in trees():
+            for node in ast.walk(tree):
+                if isinstance(node, ast.ExceptHandler):
+                    named = node.type.elts if isinstance(node.type, ast.Tuple) else [node.type]
+                    self.assertLessEqual({name.id for name in named}, own, path.name)
+                if isinstance(node, ast.Raise):
+                    self.assertIn(node.exc.func.id, own, path.name)
+
+
 class Interface(unittest.TestCase):
     def test_functions(self):
         for name, functions in INTERFACE.items():
@@ -132,6 +277,15 @@ class Interface(unittest.TestCase):
             found = {node.name: ast.unparse(node.args) for node in tree.body if isinstance(node, ast.FunctionDef)}
             for function, arguments in functions.items():
                 self.assertEqual(found.get(function), arguments, (name, function))
+
+    def test_classes(self):
+        for name, classes in CLASSES.items():
+            found = {cls.name: cls for cls in classes_in(ast.parse((FOLDER / name).read_text()))}
+            for cls, methods in classes.items():
+                there = {node.name: ast.unparse(node.args) for node in methods_in(found[cls])}
+                for method, arguments in methods.items():
+                    wanted = ", ".join(["self"] + ([arguments] if arguments else []))
+                    self.assertEqual(there.get(method), wanted, (name, method))
 
 
 if __name__ == "__main__":

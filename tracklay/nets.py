@@ -54,6 +54,11 @@ def too_big(kinds):
     return len(kinds) > MOST_THINGS
 
 
+def by_kinds(things):
+    """The tuple of things, ordered by their kinds; those of a rank stay in their order."""
+    return tuple([thing for rank in range(3) for thing in things if RANKS[thing[0]] == rank])
+
+
 def look(netlist):
     """Refuse a netlist that isn't good."""
     look_at_things(netlist)
