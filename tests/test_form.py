@@ -37,6 +37,8 @@ INTERFACE = {
         "patch": "old, new",
         "patched": "image, some",
     },
+    "rows.py": {"deed_text": "deed", "deed_of": "text"},
+    "pages.py": {"page": "bench", "bench_of": "text"},
 }
 
 # File: class: methods with their arguments behind self.
@@ -44,6 +46,18 @@ CLASSES = {
     "fabric.py": {"Fabric": {
         "__init__": "image, tracks", "cycle": "row", "held": "", "hold": "bits", "lay": "some", "image": "", "twin": "",
         "__len__": "", "__str__": "", "__repr__": "", "__eq__": "other",
+    }},
+    "bench.py": {"Bench": {
+        "__init__": "slots, tracks=3", "entry": "name", "gate": "name, bits, pins", "keeper": "name, bits, pin",
+        "output": "name, pin", "bits": "name, bits", "wire": "name, at, source", "drop": "name", "peg": "name, slot",
+        "unpeg": "name", "lay": "", "cycle": "row=''", "deed": "row", "back": "", "again": "", "deeds": "",
+        "twin": "", "netlist": "", "pegs": "", "laid": "", "image": "", "sheet": "", "held": "", "delay": "",
+        "change": "", "least": "", "stale": "", "__len__": "", "__str__": "", "__repr__": "", "__eq__": "other",
+    }},
+    "desk.py": {"Desk": {
+        "__init__": "", "open_one": "name, slots, tracks=3", "read": "name, text", "copy_one": "name, other",
+        "close": "name", "names": "", "view": "name", "page": "name", "deed": "name, row", "back": "name",
+        "again": "name", "say": "line", "__len__": "",
     }},
 }
 

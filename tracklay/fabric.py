@@ -69,7 +69,7 @@ class Fabric:
 
 def read_by_letters(image, tracks):
     """The netlist of an image, its things named by letters."""
-    return read(image, tracks, tuple(list(LETTERS)[:len(image)]))
+    return read(image, tracks, tuple(LETTERS[:len(image)]))
 
 
 def look_at_bits(text, many):
